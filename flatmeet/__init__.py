@@ -1,0 +1,1 @@
+"""Flatmeet: flats through one point, and signed boxes, in whole numbers."""
