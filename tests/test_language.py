@@ -25,6 +25,21 @@ WORDS = re.compile(
     r"\b(type|typing|typing_extensions|enum|Enum|IntEnum|StrEnum|Flag|IntFlag|Generic|Protocol|ABC|ABCMeta|namedtuple"
     r"|NamedTuple|TypedDict|TYPE_CHECKING|abstractmethod)\b|dataclass|overload|contextmanager")
 
+METHODS = set("""
+    append clear copy count endswith extend find get index insert isalnum isalpha isdigit islower isspace isupper items
+    join keys ljust lower lstrip partition pop remove replace reverse rfind rjust rpartition rsplit rstrip setdefault
+    split splitlines startswith strip update upper values zfill bit_length
+""".split())
+WALKED = ("zip", "enumerate", "reversed", "range")
+WALKERS = ("list", "tuple", "dict", "sorted", "sum", "any", "all", "enumerate", "zip")
+KEYWORDS = {"sorted": {"key", "reverse"}, "min": {"key", "default"}, "max": {"key", "default"}, "sum": {"start"},
+            "enumerate": {"start"}, "zip": {"strict"}}
+
+
+def called(node):
+    """The name of what is called, where it is called by a plain name."""
+    return node.func.id if isinstance(node, ast.Call) and isinstance(node.func, ast.Name) else None
+
 
 def named(node):
     """Every name that a node binds or reads."""
@@ -88,6 +103,109 @@ class Language(unittest.TestCase):
         for place, node in self.nodes:
             for name in named(node):
                 self.assertFalse(name.startswith("_") and name not in allowed, f"{place} {name}")
+
+    def test_the_top_of_each_file(self):
+        for path, text in self.texts.items():
+            bound = []
+            for place, node in enumerate(ast.parse(text).body):
+                note = f"{path.name}:{node.lineno}"
+                if place == 0:
+                    self.assertTrue(isinstance(node, ast.Expr) and isinstance(node.value.value, str), note)
+                    continue
+                self.assertIsInstance(node, (ast.ImportFrom, ast.FunctionDef, ast.ClassDef, ast.Assign), note)
+                if isinstance(node, ast.ImportFrom):
+                    bound.extend(alias.asname or alias.name for alias in node.names)
+                elif isinstance(node, ast.Assign):
+                    bound.append(node.targets[0].id)
+                else:
+                    bound.append(node.name)
+            self.assertEqual(len(bound), len(set(bound)), path.name)
+
+    def test_statements(self):
+        for place, node in self.nodes:
+            if isinstance(node, ast.Assign):
+                self.assertEqual(len(node.targets), 1, place)
+                self.assertNotIsInstance(node.targets[0], (ast.Tuple, ast.List), place)
+            if isinstance(node, (ast.For, ast.While)):
+                self.assertEqual(node.orelse, [], place)
+            if isinstance(node, ast.Try):
+                self.assertEqual(node.finalbody, [], place)
+            if isinstance(node, ast.ListComp):
+                self.assertEqual(len(node.generators), 1, place)
+                self.assertLessEqual(len(node.generators[0].ifs), 1, place)
+            if isinstance(node, ast.JoinedStr):
+                parts = [part.value for part in node.values if isinstance(part, ast.FormattedValue)]
+                self.assertTrue(all(isinstance(part, ast.Name) for part in parts), place)
+
+    def test_functions_are_plain(self):
+        for place, node in self.nodes:
+            if isinstance(node, ast.FunctionDef):
+                held = node.args
+                self.assertEqual((held.vararg, held.kwarg, held.kwonlyargs, held.posonlyargs), (None, None, [], []))
+                self.assertIsNone(node.returns, place)
+                self.assertIsNone(ast.get_docstring(node), place)
+            if isinstance(node, ast.arg):
+                self.assertIsNone(node.annotation, place)
+
+    def test_methods_are_listed_or_the_programs_own(self):
+        own = {part.name for place, node in self.nodes if isinstance(node, ast.ClassDef) for part in node.body
+               if isinstance(part, ast.FunctionDef)}
+        for place, node in self.nodes:
+            if isinstance(node, ast.Call) and isinstance(node.func, ast.Attribute):
+                self.assertIn(node.func.attr, METHODS | own, place)
+
+    def test_no_name_is_a_method_here_and_a_value_there(self):
+        methods = {part.name for place, node in self.nodes if isinstance(node, ast.ClassDef) for part in node.body
+                   if isinstance(part, ast.FunctionDef)}
+        values = {node.attr for place, node in self.nodes
+                  if isinstance(node, ast.Attribute) and isinstance(node.ctx, ast.Store)}
+        self.assertEqual(methods & values, set())
+
+    def test_keywords(self):
+        for place, node in self.nodes:
+            if isinstance(node, ast.Call):
+                allowed = KEYWORDS.get(called(node), set())
+                self.assertLessEqual({keyword.arg for keyword in node.keywords}, allowed, place)
+
+    def test_what_is_walked_is_walked_on_the_spot(self):
+        fine = set()
+        for place, node in self.nodes:
+            if isinstance(node, (ast.For, ast.comprehension)):
+                fine.add(id(node.iter))
+            if called(node) in WALKERS:
+                fine.add(id(node.args[0]))
+        for place, node in self.nodes:
+            if called(node) in WALKED:
+                self.assertIn(id(node), fine, place)
+
+    def test_locals_are_not_called_like_imports_classes_or_names_of_pythons_own(self):
+        for path, text in self.texts.items():
+            tree = ast.parse(text)
+            taken = {alias.name for node in tree.body if isinstance(node, ast.ImportFrom) for alias in node.names}
+            taken |= {node.name for node in tree.body if isinstance(node, (ast.ClassDef, ast.FunctionDef))}
+            for function in ast.walk(tree):
+                if isinstance(function, ast.FunctionDef):
+                    for node in ast.walk(function):
+                        name = node.arg if isinstance(node, ast.arg) else None
+                        if isinstance(node, ast.Name) and isinstance(node.ctx, ast.Store):
+                            name = node.id
+                        self.assertFalse(name in taken or hasattr(builtins, str(name)) and name is not None,
+                                         f"{path.name}: {name}")
+
+    def test_no_two_files_draw_from_one_another(self):
+        drawn = {path.stem: {node.module.split(".")[-1] for node in ast.parse(text).body
+                             if isinstance(node, ast.ImportFrom)} for path, text in self.texts.items()}
+        defined = {path.stem: {node.name for node in ast.parse(text).body if hasattr(node, "name")}
+                   for path, text in self.texts.items()}
+        left = dict(drawn)
+        while left:
+            free = [name for name, others in left.items() if not others & set(left)]
+            self.assertTrue(free, sorted(left))
+            left = {name: others for name, others in left.items() if name not in free}
+        for place, node in self.nodes:
+            if isinstance(node, ast.ImportFrom):
+                for alias in node.names:
+                    self.assertIn(alias.name, defined[node.module.split(".")[-1]], place)
 
 
 if __name__ == "__main__":

@@ -1,0 +1,37 @@
+"""The interface: each name, its arguments, and that they may be handed in by name."""
+
+import importlib
+import inspect
+import unittest
+
+INTERFACE = {
+    "rows": {"plus": "one other", "less": "one other", "times": "row many", "weighed": "one other"},
+    "flats": {"flat_of": "many rows", "paper": "many rows", "mirror": "flat", "parts": "flat row"},
+    "meeting": {"join": "one other", "meet": "one other", "square": "flat", "within": "one other"},
+    "sums": {"made": "many size terms", "added": "one other", "taken": "some many", "product": "one other",
+             "box_of": "many rows"},
+    "single": {"spanned": "many size some", "broken": "many size some"},
+}
+
+
+class Interface(unittest.TestCase):
+
+    def test_names_and_arguments(self):
+        for module, functions in INTERFACE.items():
+            for name, wanted in functions.items():
+                with self.subTest(module=module, name=name):
+                    function = getattr(importlib.import_module("flatmeet." + module), name)
+                    self.assertTrue(inspect.isfunction(function))
+                    found = inspect.signature(function).parameters.values()
+                    self.assertEqual([part.name for part in found], wanted.split())
+                    self.assertEqual({(part.kind, part.default) for part in found},
+                                     {(inspect.Parameter.POSITIONAL_OR_KEYWORD, inspect.Parameter.empty)})
+
+    def test_flat_is_a_class_of_flats(self):
+        flats = importlib.import_module("flatmeet.flats")
+        self.assertTrue(inspect.isclass(flats.Flat))
+        self.assertEqual(flats.Flat.__module__, "flatmeet.flats")
+
+
+if __name__ == "__main__":
+    unittest.main()
