@@ -2,25 +2,13 @@
 
 from flatmeet.flats import frame_of
 from flatmeet.rows import times
-from flatmeet.steps import check_count, check_size
+from flatmeet.steps import check_count, check_size, places_of
 from flatmeet.sums import box_of, taken, turn_of
 
 
 def check_sum(many, size):
     check_count(many)
     check_size(1, many, size)
-
-
-def places_of(many, size):
-    told = [()]
-    while size > 0:
-        longer = []
-        for places in told:
-            least = places[-1] + 1 if places else 0
-            longer.extend([places + (number,) for number in range(least, many)])
-        told = longer
-        size -= 1
-    return told
 
 
 def number_for(numbers, places):

@@ -34,6 +34,18 @@ def check_size(least, most, size):
         raise BadSize("no size of this space")
 
 
+def places_of(many, size):
+    told = [()]
+    while size > 0:
+        longer = []
+        for places in told:
+            least = places[-1] + 1 if places else 0
+            longer.extend([places + (number,) for number in range(least, many)])
+        told = longer
+        size -= 1
+    return told
+
+
 def units(many):
     return [[1 if way == place else 0 for way in range(many)] for place in range(many)]
 

@@ -3,8 +3,12 @@
 import copy
 
 from flatmeet import errors
+from flatmeet.boxes import box, flat_of_box
+from flatmeet.crossing import crossed
 from flatmeet.flats import flat_of, mirror, paper, parts
+from flatmeet.hooks import hooked, turned_over, weighed_sums
 from flatmeet.meeting import join, meet, square, within
+from flatmeet.moves import behind, determinant, lesser, moved, moved_sum, turned_back
 from flatmeet.single import broken, spanned
 from flatmeet.sums import added, box_of, made, product, taken
 from given import BAD_COUNTS, NINES, RISING, WAYS
@@ -19,6 +23,8 @@ NOTHING = flat_of(3, [])
 SLANT = flat_of(5, WIDE)
 TWO = [((0, 1), 2), ((2, 3), -1)]
 ONE = [((0, 1), 2), ((0, 2), -4)]
+TABLE = [[1, 2, 3], [4, 5, 6], [7, 8, 10]]
+ONES = [[1, 0, 0], [0, 1, 0], [0, 0, 1]]
 
 # function, what is handed in
 ASKS = [
@@ -73,6 +79,39 @@ ASKS = [
     (spanned, (4, 2, [])),
     (broken, (4, 2, ONE)),
     (broken, (4, 2, TWO)),
+    (box, (SHEET,)),
+    (box, (NOTHING,)),
+    (box, (SLANT,)),
+    (flat_of_box, (4, 2, ONE)),
+    (flat_of_box, (3, 1, [((0,), 1)])),
+    (hooked, ([1, 2, 3, 4], TWO)),
+    (hooked, ([1, 0, 0], [((0,), 5)])),
+    (hooked, ([], [])),
+    (turned_over, (4, TWO)),
+    (turned_over, (3, [((), 1)])),
+    (turned_over, (3, [])),
+    (weighed_sums, (TWO, ONE)),
+    (weighed_sums, (TWO, [])),
+    (crossed, (4, TWO, ONE)),
+    (crossed, (4, TWO, [((0, 1, 2, 3), 1)])),
+    (crossed, (4, [], TWO)),
+    (moved, (TABLE, [1, -2, 3])),
+    (moved, (ONES, [1, -2, 3])),
+    (moved_sum, (TABLE, ONE)),
+    (moved_sum, (ONES, ONE)),
+    (moved_sum, (TABLE, [((), 4)])),
+    (moved_sum, (TABLE, [])),
+    (determinant, (TABLE,)),
+    (behind, (TABLE, ONES)),
+    (behind, (ONES, TABLE)),
+    (behind, (TABLE, TABLE)),
+    (lesser, (TABLE, 0)),
+    (lesser, (TABLE, 1)),
+    (lesser, (TABLE, 2)),
+    (lesser, (TABLE, 3)),
+    (turned_back, (TABLE,)),
+    (turned_back, (ONES,)),
+    (turned_back, ([[4]],)),
 ]
 
 # many, rows, the place of the first bad row
@@ -136,6 +175,80 @@ def refused_beside_one_another(function):
                     yield function, (flat_of(many, rows), flat_of(other, more)), errors.OtherSpace, {}
 
 
+# Lists that are no table.
+NO_TABLES = [
+    [],
+    [[]],
+    [[1, 2]],
+    [[1], [2]],
+    [[1, 2], [3]],
+    [[1], [2, 3]],
+    [[1, 2], [3, 4, 5]],
+    [[1, 2, 3], [4, 5, 6]],
+    [[1, 2], [3, 4], [5, 6]],
+    [[0] * 5] * 4,
+    [[0] * 4] * 5,
+    [[0] * 5] * 4 + [[0] * 4],
+    [[0] * 6] + [[0] * 5] * 4,
+    [[1] * 6] * 6,
+    [[1] * 5] * 6,
+    [[1] * 12] * 12,
+]
+
+
+def table_of(many):
+    return [[way + place for way in range(many)] for place in range(many)]
+
+
+def refused_tables():
+    for table in NO_TABLES:
+        for row in ([1, 2], [], [1] * 6):
+            yield moved, (table, row), errors.BadTable, {}
+        for some in ([], [((0,), 1)], [((9,), 1)]):
+            yield moved_sum, (table, some), errors.BadTable, {}
+        for other in ([[1, 2], [3, 4]], [[1]], [[1], [2]], []):
+            yield behind, (table, other), errors.BadTable, {}
+            yield behind, (other, table), errors.BadTable, {}
+        for size in (0, 1, -1, 9):
+            yield lesser, (table, size), errors.BadTable, {}
+        yield determinant, (table,), errors.BadTable, {}
+        yield turned_back, (table,), errors.BadTable, {}
+
+
+def refused_beside_a_table():
+    for many in WAYS:
+        for row in ([1] * (many - 1), [0] * (many + 1), [1] * 12):
+            yield moved, (table_of(many), row), errors.BadRow, {}
+        for some in ([((many,), 1)], [((0,), 1), ((many,), -1)], [((0, many), 1)], [((4, 5), 1)]):
+            yield moved_sum, (table_of(many), some), errors.BadPlaces, {}
+        for other in WAYS:
+            if other != many:
+                yield behind, (table_of(many), table_of(other)), errors.NotAlike, {}
+        for size in (-1, many + 1, 6, NINES, -NINES):
+            yield lesser, (table_of(many), size), errors.BadSize, {}
+
+
+def refused_boxes():
+    yield from refused_sizes(flat_of_box, 1, [])
+    yield from refused_sizes(flat_of_box, 1, [((0,), 1)])
+    for many in WAYS:
+        for size in range(1, many + 1):
+            yield flat_of_box, (many, size, []), errors.ZeroSum, {}
+    for some in (TWO, [((0, 2), 1), ((1, 3), NINES)]):
+        rule = broken(4, 2, some)
+        yield flat_of_box, (4, 2, some), errors.NoBox, {"left": rule[0], "right": rule[1]}
+
+
+def refused_sums():
+    for row, some in (([], [((0,), 1)]), ([1, 2], TWO), ([1, 2, 3], TWO), ([0, 0], [((0, 1), 1), ((0, 2), 1)])):
+        yield hooked, (row, some), errors.BadRow, {}
+    for many in BAD_COUNTS:
+        for some in ([], TWO):
+            yield turned_over, (many, some), errors.BadCount, {}
+            yield crossed, (many, some, ONE), errors.BadCount, {}
+            yield crossed, (many, [], some), errors.BadCount, {}
+
+
 def refused():
     """function, what is handed in, the refusal's class, its fields"""
     for function in (flat_of, paper, box_of):
@@ -149,6 +262,10 @@ def refused():
     for function in (spanned, broken):
         yield from refused_sizes(function, 1, [])
         yield from refused_sizes(function, 1, [((0,), 1)])
+    yield from refused_boxes()
+    yield from refused_sums()
+    yield from refused_tables()
+    yield from refused_beside_a_table()
 
 
 def fresh(handed):

@@ -11,6 +11,11 @@ INTERFACE = {
     "sums": {"made": "many size terms", "added": "one other", "taken": "some many", "product": "one other",
              "box_of": "many rows"},
     "single": {"spanned": "many size some", "broken": "many size some"},
+    "boxes": {"box": "flat", "flat_of_box": "many size some"},
+    "hooks": {"hooked": "row some", "turned_over": "many some", "weighed_sums": "one other"},
+    "crossing": {"crossed": "many one other"},
+    "moves": {"moved": "table row", "moved_sum": "table some", "determinant": "table", "behind": "one other",
+              "lesser": "table size", "turned_back": "table"},
 }
 
 

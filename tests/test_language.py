@@ -195,7 +195,8 @@ class Language(unittest.TestCase):
     def test_no_two_files_draw_from_one_another(self):
         drawn = {path.stem: {node.module.split(".")[-1] for node in ast.parse(text).body
                              if isinstance(node, ast.ImportFrom)} for path, text in self.texts.items()}
-        defined = {path.stem: {node.name for node in ast.parse(text).body if hasattr(node, "name")}
+        defined = {path.stem: {getattr(node, "name", None) or node.targets[0].id for node in ast.parse(text).body
+                               if isinstance(node, (ast.FunctionDef, ast.ClassDef, ast.Assign))}
                    for path, text in self.texts.items()}
         left = dict(drawn)
         while left:
