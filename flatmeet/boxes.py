@@ -10,6 +10,7 @@ def box(flat):
     return box_of(flat.many, flat.rows)
 
 
+# spanned comes first: it refuses a bad count and a bad size, ahead of the sum 0.
 def flat_of_box(many, size, some):
     rows = spanned(many, size, some)
     if not some:

@@ -1,8 +1,8 @@
 """Moves of the whole space, told by tables."""
 
-from flatmeet.errors import BadPlaces, BadTable, NotAlike
+from flatmeet.errors import BadPlaces, BadTable
 from flatmeet.rows import weighed
-from flatmeet.steps import MOST_WAYS, check_row, check_size, places_of
+from flatmeet.steps import MOST_WAYS, check_alike, check_row, check_size, places_of
 from flatmeet.sums import added, box_of, taken
 
 
@@ -51,8 +51,7 @@ def determinant(table):
 def behind(one, other):
     check_table(one)
     check_table(other)
-    if len(one) != len(other):
-        raise NotAlike("tables of unlike spaces")
+    check_alike(one, other)
     columns = columns_of(other)
     return [[weighed(line, column) for column in columns] for line in one]
 

@@ -5,10 +5,14 @@ from flatmeet.errors import BadCount, BadRow, BadRows, BadSize, NotAlike
 MOST_WAYS = 5
 
 
-# zip by itself would drop the tail of the longer list in silence.
-def pairs(one, other):
+def check_alike(one, other):
     if len(one) != len(other):
         raise NotAlike("lists of unlike lengths")
+
+
+# zip by itself would drop the tail of the longer list in silence.
+def pairs(one, other):
+    check_alike(one, other)
     return list(zip(one, other))
 
 

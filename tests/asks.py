@@ -5,12 +5,16 @@ import copy
 from flatmeet import errors
 from flatmeet.boxes import box, flat_of_box
 from flatmeet.crossing import crossed
+from flatmeet.dropping import apart, dropped
+from flatmeet.equations import answer, bar, idle
 from flatmeet.flats import flat_of, mirror, paper, parts
 from flatmeet.hooks import hooked, turned_over, weighed_sums
 from flatmeet.meeting import join, meet, square, within
 from flatmeet.moves import behind, determinant, lesser, moved, moved_sum, turned_back
+from flatmeet.rows import less, plus, times, weighed
 from flatmeet.single import broken, spanned
 from flatmeet.sums import added, box_of, made, product, taken
+from flatmeet.texts import rows_text, sum_text
 from given import BAD_COUNTS, NINES, RISING, WAYS
 
 ROOM = [[2, 4, 6], [1, 1, 1]]
@@ -28,6 +32,10 @@ ONES = [[1, 0, 0], [0, 1, 0], [0, 0, 1]]
 
 # function, what is handed in
 ASKS = [
+    (plus, ([1, 2], [3, 4])),
+    (less, ([1, 2], [3, 4])),
+    (times, ([1, 2], 3)),
+    (weighed, ([1, 2], [3, 4])),
     (flat_of, (3, ROOM)),
     (flat_of, (3, SHEET.rows)),
     (flat_of, (3, [])),
@@ -112,6 +120,26 @@ ASKS = [
     (turned_back, (TABLE,)),
     (turned_back, (ONES,)),
     (turned_back, ([[4]],)),
+    (answer, (3, ROOM, [4, 1])),
+    (answer, (3, ROOM + [[0, 0, 0]], [4, 1, 1])),
+    (answer, (3, [], [])),
+    (answer, (3, ONES, [4, -5, 6])),
+    (bar, (3, ROOM, [4, 1])),
+    (bar, (3, ROOM + [[0, 0, 0]], [4, 1, 1])),
+    (bar, (3, ROOM + [[3, 5, 7]], [4, 1, 1])),
+    (idle, (3, ROOM)),
+    (idle, (3, [])),
+    (idle, (5, WIDE)),
+    (dropped, (SHEET, [4, -5, 6])),
+    (dropped, (LINE, [1, 1, 1])),
+    (dropped, (NOTHING, [1, 2, 3])),
+    (dropped, (WHOLE, [1, 2, 3])),
+    (apart, (LINE, [1, 1, 1])),
+    (apart, (NOTHING, [1, 2, 3])),
+    (rows_text, (ROOM,)),
+    (rows_text, ([],)),
+    (sum_text, (TWO,)),
+    (sum_text, ([],)),
 ]
 
 # many, rows, the place of the first bad row
@@ -249,11 +277,24 @@ def refused_sums():
             yield crossed, (many, [], some), errors.BadCount, {}
 
 
+def refused_ends():
+    for function in (answer, bar):
+        for ends in ([], [1], [1, 2, 3]):
+            yield from refused_rows(function, ends)
+        for many in WAYS:
+            for rows, ends in (([], [0]), ([[1] * many], []), ([[1] * many], [1, 2]), ([[0] * many] * 12, [0] * 11)):
+                yield function, (many, rows, ends), errors.NotAlike, {}
+    yield from refused_rows(idle)
+
+
 def refused():
     """function, what is handed in, the refusal's class, its fields"""
+    for function in (plus, less, weighed):
+        yield function, ([1, 2], [1]), errors.NotAlike, {}
     for function in (flat_of, paper, box_of):
         yield from refused_rows(function)
-    yield from refused_beside_a_flat(parts)
+    for function in (parts, dropped, apart):
+        yield from refused_beside_a_flat(function)
     for function in (join, meet, within):
         yield from refused_beside_one_another(function)
     yield from refused_sizes(made, 0, [])
@@ -266,6 +307,7 @@ def refused():
     yield from refused_sums()
     yield from refused_tables()
     yield from refused_beside_a_table()
+    yield from refused_ends()
 
 
 def fresh(handed):

@@ -4,6 +4,8 @@ import importlib
 import inspect
 import unittest
 
+from asks import ASKS
+
 INTERFACE = {
     "rows": {"plus": "one other", "less": "one other", "times": "row many", "weighed": "one other"},
     "flats": {"flat_of": "many rows", "paper": "many rows", "mirror": "flat", "parts": "flat row"},
@@ -16,6 +18,9 @@ INTERFACE = {
     "crossing": {"crossed": "many one other"},
     "moves": {"moved": "table row", "moved_sum": "table some", "determinant": "table", "behind": "one other",
               "lesser": "table size", "turned_back": "table"},
+    "equations": {"answer": "many rows ends", "bar": "many rows ends", "idle": "many rows"},
+    "dropping": {"dropped": "flat row", "apart": "flat row"},
+    "texts": {"rows_text": "rows", "sum_text": "some"},
 }
 
 
@@ -36,6 +41,16 @@ class Interface(unittest.TestCase):
         flats = importlib.import_module("flatmeet.flats")
         self.assertTrue(inspect.isclass(flats.Flat))
         self.assertEqual(flats.Flat.__module__, "flatmeet.flats")
+
+    def test_desk_is_a_class_of_desk(self):
+        desk = importlib.import_module("flatmeet.desk")
+        self.assertTrue(inspect.isclass(desk.Desk))
+        self.assertEqual(list(inspect.signature(desk.Desk).parameters), [])
+        self.assertEqual(list(inspect.signature(desk.Desk().tell).parameters), ["line"])
+
+    def test_each_function_is_asked_in_the_tests_of_what_stays(self):
+        wanted = {name for functions in INTERFACE.values() for name in functions}
+        self.assertEqual({function.__name__ for function, handed in ASKS}, wanted)
 
 
 if __name__ == "__main__":
