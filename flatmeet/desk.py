@@ -58,7 +58,7 @@ def is_number(word):
 
 
 def row_of(many, word):
-    if len(word) < 2 or word[0] != "(" or word[-1] != ")":
+    if not word.startswith("(") or not word.endswith(")"):
         raise NoRow("no row")
     numbers = word[1:-1].split(",")
     if len(numbers) != many or not all([is_number(number) for number in numbers]):
